@@ -1,6 +1,7 @@
 """What several tests share: nets and numbers drawn the same each time, and checks of what is told."""
 
 import copy
+import itertools
 
 from beadhall.bags import plus, times
 from beadhall.errors import HallError, NoGo
@@ -51,6 +52,11 @@ def box(width, most):
     return found
 
 
+def sets_of(bowls):
+    """All sets of these bowls, those with fewer bowls first."""
+    return [list(chosen) for size in range(len(bowls) + 1) for chosen in itertools.combinations(bowls, size)]
+
+
 def rows_of_doors(net, length):
     """All rows of doors up to that length."""
     found = [[]]
@@ -59,6 +65,18 @@ def rows_of_doors(net, length):
         last = [row + [door] for row in last for door in range(len(net.doors))]
         found = found + last
     return found
+
+
+def met_by_runs(net, most):
+    """Beads behind runs, up to so many unlike ones, the shorter runs first."""
+    found = [tuple(net.first)]
+    for beads in found:
+        for takes, gives in zip(net.takes, net.gives):
+            if all(beads[bowl] >= takes[bowl] for bowl in range(len(beads))):
+                behind = tuple(beads[bowl] - takes[bowl] + gives[bowl] for bowl in range(len(beads)))
+                if behind not in found and len(found) < most:
+                    found.append(behind)
+    return [list(beads) for beads in found]
 
 
 def added_up(rows, numbers, width):
