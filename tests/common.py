@@ -32,6 +32,20 @@ class Draw:
             self.sparse(bowls, most),
             [(self.sparse(bowls, most), self.sparse(bowls, most)) for _ in range(doors)])
 
+    def moving_net(self, bowls, doors, top):
+        """A net whose doors take from one bowl or two and give about as much, or just as much."""
+        found = []
+        for _ in range(doors):
+            takes = [0] * bowls
+            gives = [0] * bowls
+            for _ in range(self.number(1, 2)):
+                beads = self.number(1, top)
+                takes[self.number(0, bowls - 1)] += beads
+                gives[self.number(0, bowls - 1)] += beads
+            gives[self.number(0, bowls - 1)] += self.number(0, 1)
+            found.append((takes, gives))
+        return net_of(self.sparse(bowls, 4), found)
+
     def row(self, net, length):
         return [self.number(0, len(net.doors) - 1) for _ in range(length)]
 

@@ -27,22 +27,10 @@ def drawn_nets(seed, many):
 
 
 def moving_nets(seed, many):
-    """Nets whose doors take from one bowl or two and give back about as much, so that there are reasons."""
+    """Nets with reasons."""
     draw = Draw(seed)
     for _ in range(many):
-        bowls = draw.number(1, 4)
-        top = draw.number(1, 2)
-        doors = []
-        for _ in range(draw.number(1, 4)):
-            takes = [0] * bowls
-            gives = [0] * bowls
-            for _ in range(draw.number(1, 2)):
-                beads = draw.number(1, top)
-                takes[draw.number(0, bowls - 1)] += beads
-                gives[draw.number(0, bowls - 1)] += beads
-            gives[draw.number(0, bowls - 1)] += draw.number(0, 1)
-            doors.append((takes, gives))
-        yield net_of(draw.sparse(bowls, 4), doors)
+        yield draw.moving_net(draw.number(1, 4), draw.number(1, 4), draw.number(1, 2))
 
 
 def greatest_trap_of(net, bowls):
