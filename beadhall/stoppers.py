@@ -9,6 +9,7 @@ from beadhall.pits import least_stoppers
 from beadhall.sums import gains
 from beadhall.sums import sums
 from beadhall.traps import greatest_trap
+from beadhall.traps import is_trap
 from beadhall.traps import lies_in
 
 
@@ -39,7 +40,7 @@ def kept_reasons(net):
 def reason_for(net, stopper):
     tops = top_beads(net)
     trap = greatest_trap(net, [bowl for bowl in stopper if tops[bowl] == 1])[0]
-    if lies_in(net.first, trap):
+    if is_trap_reason(net, stopper, trap):
         return ("trap", trap)
     for weights in weights_to_try(net, stopper):
         if is_weight_reason(net, stopper, weights):
@@ -50,6 +51,21 @@ def reason_for(net, stopper):
 def weights_to_try(net, stopper):
     single = [unit(bowl, len(net.bowls)) for bowl in stopper]
     return single + [weights for bowl, weights in sums(net)]
+
+
+# Whether it is a reason of one of the two kinds, told by `kept_reasons` or not; None is none.
+def is_reason(net, stopper, reason):
+    if reason is None:
+        return False
+    if reason[0] == "trap":
+        return is_trap_reason(net, stopper, reason[1])
+    return is_weight_reason(net, stopper, reason[1])
+
+
+def is_trap_reason(net, stopper, bowls):
+    tops = top_beads(net)
+    within = [bowl in stopper and tops[bowl] == 1 for bowl in bowls]
+    return all(within) and is_trap(net, bowls) and lies_in(net.first, bowls)
 
 
 def is_weight_reason(net, stopper, weights):

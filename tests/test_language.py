@@ -136,6 +136,43 @@ class LanguageTest(unittest.TestCase):
             names = top_names(tree)
             self.assertEqual(len(names), len(set(names)), f"L15: {name}: a name bound twice")
 
+    def test_values_at_the_top(self):
+        """L3, L15"""
+        for name, tree in TREES.items():
+            above = set()
+            for node in tree.body:
+                if isinstance(node, ast.FunctionDef):
+                    above.add(node.name)
+                if not isinstance(node, ast.Assign):
+                    continue
+                for inner in ast.walk(node.value):
+                    if isinstance(inner, ast.Name) and inner.id not in above:
+                        self.wrong("L3", name, inner, f"{inner.id} is no function defined above")
+                    if not isinstance(inner, (
+                            ast.Constant, ast.List, ast.Tuple, ast.Dict, ast.Name, ast.UnaryOp, ast.USub, ast.Load)):
+                        self.wrong("L3", name, node, "no plain value")
+                    if inner is not node.value and isinstance(inner, (ast.List, ast.Dict)):
+                        self.wrong("L15", name, node, "a list or dict within another value")
+
+    def test_lists_and_dicts_at_the_top_are_only_read(self):
+        """L15"""
+        for name, tree in TREES.items():
+            kept = {
+                node.targets[0].id for node in tree.body
+                if isinstance(node, ast.Assign) and isinstance(node.value, (ast.List, ast.Dict))}
+            read = set()
+            for node in ast.walk(tree):
+                if isinstance(node, ast.Subscript) and isinstance(node.ctx, ast.Load):
+                    read.add(node.value)
+                if isinstance(node, ast.Compare):
+                    read.update(node.comparators)
+                if isinstance(node, (ast.For, ast.comprehension)):
+                    read.add(node.iter)
+            for node in ast.walk(tree):
+                if isinstance(node, ast.Name) and node.id in kept and isinstance(node.ctx, ast.Load):
+                    if node not in read:
+                        self.wrong("L15", name, node, f"{node.id} is handed on")
+
     def test_statements_and_expressions(self):
         """L6, L7"""
         for name, node in nodes(ast.stmt):
