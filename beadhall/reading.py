@@ -6,7 +6,10 @@ from beadhall.nets import MOST_BOWLS
 from beadhall.nets import MOST_DOORS
 from beadhall.nets import Net
 from beadhall.nets import is_name
-from beadhall.nets import place_of
+from beadhall.words import is_idle
+from beadhall.words import part_text
+from beadhall.words import read_count
+from beadhall.words import read_part
 
 MOST_FIGURES = 10
 
@@ -32,10 +35,6 @@ def read_net(text):
     return Net(draft.bowls, draft.doors, widened(draft.takes, width), widened(draft.gives, width), draft.first)
 
 
-def is_idle(row):
-    return row == "" or row.startswith("#")
-
-
 def widened(bags, width):
     return [bag + [0] * (width - len(bag)) for bag in bags]
 
@@ -52,7 +51,7 @@ def take_row(draft, words):
 def take_bowl(draft, words):
     if len(words) != 2 or not may_be_added(words[0], draft.bowls, MOST_BOWLS):
         return False
-    count = read_count(words[1])
+    count = read_beads(words[1])
     if count is None:
         return False
     draft.bowls.append(words[0])
@@ -64,8 +63,8 @@ def take_door(draft, words):
     if ">" not in words or not may_be_added(words[0], draft.doors, MOST_DOORS):
         return False
     middle = words.index(">")
-    takes = read_part(draft.bowls, words[1:middle])
-    gives = read_part(draft.bowls, words[middle + 1:])
+    takes = read_part(draft.bowls, words[1:middle], read_beads)
+    gives = read_part(draft.bowls, words[middle + 1:], read_beads)
     if takes is None or gives is None:
         return False
     draft.doors.append(words[0])
@@ -78,41 +77,12 @@ def may_be_added(word, names, most):
     return is_name(word) and word not in names and len(names) < most
 
 
-# None where the word is no count. The figures are counted ahead of `int`, which
-# would refuse a word of some thousand figures in its own way.
-def read_count(word):
-    if not 1 <= len(word) <= MOST_FIGURES or not all(["0" <= sign <= "9" for sign in word]):
-        return None
-    if word.startswith("0") and word != "0":
-        return None
-    count = int(word)
-    if count > MOST_BEADS:
+# None where the word is no count, or one above the most that a net has.
+def read_beads(word):
+    count = read_count(word, MOST_FIGURES)
+    if count is None or count > MOST_BEADS:
         return None
     return count
-
-
-# None where the words are no part.
-def read_part(bowls, words):
-    bag = [0] * len(bowls)
-    if words == ["-"]:
-        return bag
-    # A `+` behind the last piece makes every piece three words long.
-    pieces = words + ["+"]
-    if len(pieces) % 3 != 0:
-        return None
-    for start in range(0, len(pieces), 3):
-        if not take_piece(bag, bowls, pieces[start:start + 3]):
-            return None
-    return bag
-
-
-def take_piece(bag, bowls, words):
-    count = read_count(words[0])
-    place = place_of(bowls, words[1])
-    if count is None or count == 0 or place == -1 or bag[place] > 0 or words[2] != "+":
-        return False
-    bag[place] = count
-    return True
 
 
 def net_text(net):
@@ -122,10 +92,3 @@ def net_text(net):
         gives = part_text(net.bowls, net.gives[door])
         rows.append(f"door {name} {takes} > {gives}")
     return "\n".join(rows)
-
-
-def part_text(bowls, bag):
-    pieces = [f"{count} {name}" for name, count in zip(bowls, bag) if count > 0]
-    if pieces == []:
-        return "-"
-    return " + ".join(pieces)

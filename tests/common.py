@@ -46,6 +46,18 @@ class Draw:
             found.append((takes, gives))
         return net_of(self.sparse(bowls, 4), found)
 
+    def keeping_net(self, bowls, doors, most, top):
+        """A net of up to so many first beads, whose doors give as many beads as they take, or fewer."""
+        found = []
+        for _ in range(doors):
+            takes = [0] * bowls
+            gives = [0] * bowls
+            takes[self.number(0, bowls - 1)] += self.number(1, top)
+            for _ in range(sum(takes) - self.number(0, 1)):
+                gives[self.number(0, bowls - 1)] += 1
+            found.append((takes, gives))
+        return net_of(self.sparse(bowls, most), found)
+
     def row(self, net, length):
         return [self.number(0, len(net.doors) - 1) for _ in range(length)]
 
